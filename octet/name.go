@@ -69,7 +69,7 @@ func isName(name string) bool {
 	for at, r := range name {
 		switch {
 		case r == '/':
-			if !isLevelLong(at - from) {
+			if !fitsLevel(at - from) {
 				return false
 			}
 			levels++
@@ -78,10 +78,10 @@ func isName(name string) bool {
 			return false
 		}
 	}
-	return levels <= api.MaxLevels && isLevelLong(len(name)-from)
+	return levels <= api.MaxLevels && fitsLevel(len(name)-from)
 }
 
-func isLevelLong(n int) bool { return 1 <= n && n <= api.MaxLevel }
+func fitsLevel(n int) bool { return 1 <= n && n <= api.MaxLevel }
 
 func writeName(text string) string {
 	var out []byte
