@@ -251,6 +251,18 @@ func TestResyncOnceMore(t *testing.T) {
 	c.ask("c NOOP").hear("* 1 FETCH (UID 3)", "* 2 FETCH (UID 9)", "c OK x").want("told its uid again", "7/20/4 3? 9(n)")
 }
 
+// P19.6: what is remembered of a uid comes with it, though the row was turned silently while its uid was not known.
+func TestResyncBehindSilent(t *testing.T) {
+	for text, want := range map[string]string{
+		"a STORE 1 FLAGS.SILENT ()":     `7/20/4 3(c) 9(\Seen) 0(k) 12?`,
+		"a UID STORE 3 FLAGS.SILENT ()": `7/20/4 3(c) 9(\Seen) 0? 12?`,
+	} {
+		c := standing(t)
+		c.Resync(sight(7, 5, 3, "c"))
+		c.ask(text).hear("a OK x").ask("b NOOP").hear("* 1 FETCH (UID 3)", "b OK x").want("P19.6: "+text, want)
+	}
+}
+
 // P19.6: a client that comes back knows again what has not changed, and learns what has.
 func TestResyncComesBack(t *testing.T) {
 	was := standing(t).ask("a NOOP").hear("* 1 FETCH (UID 3 FLAGS (x))", "* 3 FETCH (UID 10)", "* 4 FETCH (FLAGS (y) MODSEQ (6))", "a OK x").Sight()

@@ -17,7 +17,7 @@ func (x *world) hear(w api.Sent, l line, before api.SessionSight) {
 	after := x.sight(w.Conn)
 	opens := slices.Contains(opening, l.asked.Verb)
 	if opens && after.State == api.StateSelected {
-		c.since, c.told, c.was, c.doubt, c.back = x.time, map[int]string{}, map[int][]string{}, false, nil
+		c.told, c.was, c.doubt, c.back = map[int]string{}, map[int][]string{}, false, nil
 	}
 	uids := slices.Clone(before.Uids) // as they are at each answer
 	c.reader.Feed(w.Text)
@@ -52,7 +52,7 @@ func (x *world) hear(w api.Sent, l line, before api.SessionSight) {
 		x.answered(c, l, outcome, after)
 	}
 	if s := c.Sight(); s.Selected && x.r.IntN(6) == 0 {
-		x.seen = append(x.seen, seen{s, x.time, !c.doubt})
+		x.seen = append(x.seen, seen{s, !c.doubt})
 	}
 }
 
@@ -150,6 +150,8 @@ func (x *world) answered(c *talker, l line, outcome int, view api.SessionSight) 
 	}
 	if l.asked.Silent && isOk {
 		x.counts["silent"]++
+		// A row that it turned may get what is remembered of its uid later on.
+		c.doubt = c.doubt || len(c.was) > 0 && slices.Contains(c.Sight().Uids, 0)
 	}
 }
 
@@ -208,8 +210,6 @@ func (x *world) earlier(c *talker) seen {
 			was = other
 		}
 	}
-	// A message that came behind the SELECT may have been turned ahead of its EXISTS, and nobody tells of that.
-	was.isTrue = was.isTrue && was.time < c.since
 	if x.r.IntN(5) == 0 && len(was.sight.Flags) > 0 {
 		was.isTrue = false
 		was.sight.Flags = slices.Clone(was.sight.Flags)

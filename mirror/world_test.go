@@ -21,7 +21,6 @@ type world struct {
 	talkers [api.MaxConns + 1]*talker
 	isOpen  [api.MaxConns + 1]bool // as the server has it
 	tag     int
-	time    int    // how many steps were played
 	seen    []seen // what some mirror knew at some time
 	counts  map[string]int
 	log     []string
@@ -29,7 +28,6 @@ type world struct {
 
 type seen struct {
 	sight  api.MirrorSight
-	time   int
 	isTrue bool // the flags were so as of its modseq
 }
 
@@ -40,7 +38,6 @@ type talker struct {
 	written []line
 
 	// What the test knows of the mailbox that is selected, and the mirror need not.
-	since int              // when it was selected
 	told  map[int]string   // by uid: the flags that were told last
 	was   map[int][]string // by uid: what Resync remembered
 	doubt bool             // flags that were remembered need not be so
@@ -191,7 +188,6 @@ func (x *world) do(step api.Step, by int, l line) {
 	for k := range before {
 		before[k] = x.sight(k)
 	}
-	x.time++
 	sent, e := x.Do(step)
 	if e != api.OK {
 		x.t.Fatalf("%+v: %d", step, e)
